@@ -1,0 +1,1 @@
+"""Names, events, letters and orders."""
