@@ -4,6 +4,13 @@ import doctest
 import unittest
 
 from letterrules.base.orders import Order
+from letterrules.rules.patterns import Pattern, Rule
+from letterrules.runs.runs import Run
+
+CROSS = Pattern(conditions=((("send", "x"), ("read", "y")), (("send", "y"), ("read", "x"))), x=None, y=None)
+OVERTAKE = Pattern(conditions=((("send", "x"), ("send", "y")), (("read", "y"), ("read", "x"))), groups=((("send", "x"), ("send", "y")), (("read", "x"), ("read", "y"))), x=None, y=None)
+STALE = Pattern(conditions=((("send", "x"), ("send", "y")), (("read", "y"), ("read", "x"))), groups=((("read", "x"), ("read", "y")),), x=("order",), y=("report",))
+LAST = Run({"a": ("order", "p", "q"), "b": ("other", "p", "r"), "c": ("report", "r", "q")}, {"p": (("send", "a"), ("send", "b")), "r": (("read", "b"), ("send", "c")), "q": (("read", "c"), ("read", "a"))})
 
 HUGE = 10 ** 39
 DEEP = (((((((((("a",),),),),),),),),),)
@@ -15,7 +22,60 @@ VALUES = (
     (), ("a",), ("a", "b"), ("a", "b", "c"), ("send", "a"), ("send", "a", "b"), (("send", "a"),), (1, 2), (True,),
     [], ["a"], ["send", "a"], [[]], {}, {"a": "b"}, {1: []}, {("a", "b"): {}}, ({},), ([],), ((), [{}]), DEEP,
     Order(("a", "b")), (Order(()),), [Order(("a",), )], {"x": Order(())},
+    Run({}, {}), LAST, CROSS, Rule(CROSS), (LAST,), [CROSS], {"x": Rule(STALE)}, (CROSS, CROSS),
 )
+
+
+def others(*classes):
+    """Return the values that are of none of these classes."""
+    return [value for value in VALUES if not isinstance(value, classes)]
+
+
+def rows_of(text):
+    """Return rows from a text like `p +a +b, q -b`: sendings and readings at processes."""
+    rows = {}
+    for part in filter(None, text.split(", ")):
+        process, *words = part.split(" ")
+        rows[process] = tuple(("send" if word[0] == "+" else "read", word[1:]) for word in words)
+    return rows
+
+
+def run_of(text, **kinds):
+    """Return the run with these rows; each letter that is not read goes to the process `lost`."""
+    rows = rows_of(text)
+    where = {event: process for process, row in rows.items() for event in row}
+    letters = {name: (kinds.get(name, "k"), process, where.get(("read", name), "lost"))
+               for (word, name), process in where.items() if word == "send"}
+    return Run(letters, rows)
+
+
+def some_run(chance, many, processes="pqr", read=0.9, kinds=("k",)):
+    """Return a run that is made step by step: a letter is sent, or one under way is read."""
+    letters, rows, under_way = {}, {process: [] for process in processes}, []
+    names = [chr(ord("a") + at) for at in range(many)]
+    chance.shuffle(names)
+    while names or (under_way and chance.random() < read):
+        if names and (not under_way or chance.random() < 0.5):
+            name = names.pop()
+            sender, reader = chance.sample(processes, 2)
+            letters[name] = (chance.choice(kinds), sender, reader)
+            rows[sender].append(("send", name))
+            under_way.append(name)
+        else:
+            name = under_way.pop(chance.randrange(len(under_way)))
+            rows[letters[name][2]].append(("read", name))
+    return Run(letters, {process: tuple(row) for process, row in rows.items()})
+
+
+def naive_ahead(run):
+    """Return the set of all pairs of events of which the first one is ahead, found in the plainest way."""
+    steps = {(row[at], row[at + 1]) for row in run.rows.values() for at in range(len(row) - 1)}
+    steps |= {(("send", name), ("read", name)) for name in run.letters if name not in run.unread}
+    while True:
+        more = {(a, d) for a, b in steps for c, d in steps if b == c} - steps
+        if not more:
+            return steps
+        steps |= more
 
 
 class Case(unittest.TestCase):

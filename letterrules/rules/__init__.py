@@ -1,0 +1,1 @@
+"""Patterns, rules, and the runs that break them."""

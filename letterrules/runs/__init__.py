@@ -1,0 +1,1 @@
+"""Runs, and the four sets of them."""
