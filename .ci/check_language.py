@@ -252,6 +252,11 @@ def check_calls(path, tree, own_methods, generators):
                        "sum": ("start",), "enumerate": ("start",), "zip": ("strict",)}.get(name, ())
             if any(word.arg not in allowed for word in node.keywords):
                 complain(path, node, "L22", f"a keyword of {name}")
+        if name in ("iter", "next") and isinstance(node.func, ast.Name):
+            first = node.args[0]
+            fine = isinstance(first, (ast.Name, ast.Attribute, ast.Subscript)) or called(first) == "iter"
+            if not fine or (name == "next" and len(node.args) != 2):
+                complain(path, node, "L8", f"{name} of something else")
         if name == "isinstance" and isinstance(node.args[1], ast.Call):
             complain(path, node, "L22", "isinstance")
         if name == "reversed" and called(node.args[0]) not in ("list", "tuple", "sorted", "range"):

@@ -266,6 +266,7 @@ class OrderTests(Case):
     def test_equal(self):
         self.assertEqual(DIAMOND, Order.of(("a", "b", "c", "d"), DIAMOND.next_pairs))
         self.assertTrue(DIAMOND != Order(("a", "b", "c", "d")))
+        self.assertTrue(Order(("a", "b", "c", "d")) != DIAMOND)
         self.assertFalse(DIAMOND != Order(("a", "b", "c", "d"), *DIAMOND.pairs))
         self.assertNotEqual(Order(("a", "b")), Order(("a", "b", "c")))
         for value in VALUES:

@@ -254,6 +254,7 @@ class ChangeTests(Case):
             self.fails(InvalidOperation, lambda: CROSS & value)
         self.fails(InvalidOperation, lambda: CROSS & STALE)
         self.fails(InvalidOperation, lambda: Pattern(**FIVE) & Pattern(z=None))
+        self.fails(InvalidOperation, lambda: CROSS & Pattern(y=None, z=None))
         self.fails(InvalidPattern, lambda: Pattern(**FIVE) & Pattern(u=None))
         four = Pattern(groups=(SENDS[:3], READS[:3]), v=None, w=None, x=None)
         more = Pattern(groups=((SY, SZ), (RY, RZ)), y=None, z=None)

@@ -82,15 +82,17 @@ class MakingTests(Case):
             self.fails(InvalidRun, Run, {"a": A}, {"p": (("send", "a"),), "q": row})
         for key in (1, True, None, "", "A", "abcdefghi", ("p",), HUGE):
             self.fails(InvalidRun, Run, {"a": A}, {"p": (("send", "a"),), key: ()})
+            self.fails(InvalidRun, Run, {}, {key: ()})
         for event in others(Run):
             self.fails(InvalidRun, Run, {"b": A}, {"p": (("send", "b"), event)})
         self.fails(InvalidRun, Run, {"b": A}, {"p": (["send", "b"],)})
 
     def test_each_way_to_fail(self):
         both = {"a": A, "b": B}
-        for text in ("", "p +a", "p +a, q +b +b", "p +a +a, q +b", "p +a -b -b, q +b", "p +b, q +a", "p +a +b, q -b",
-                     "p +a -a, q +b", "q +a +b", "r +a, q +b", "p +a, q +b, r -a", "p +a +c, q +b", "p +a -c, q +b",
-                     "p -b +a, q -a +b", "p -b +b +a, q +b"):
+        for text in (
+                "", "p +a", "p +a +c", "p +c, q +b", "p +a, q +b +b", "p +a +a, q +b", "p +a -b -b, q +b", "p +b, q +a",
+                "p +a +b, q -b", "p +a -a, q +b", "q +a +b", "r +a, q +b", "p +a, q +b, r -a", "p +a +c, q +b",
+                "p +a -c, q +b", "p -b +a, q -a +b", "p -b +b +a, q +b"):
             self.fails(InvalidRun, Run, both, rows_of(text))
         Run(both, rows_of("p +a, q +b"))
         Run(both, rows_of("p +a -b, q -a +b"))
@@ -272,6 +274,9 @@ class RenamingTests(Case):
     def test_two_become_equal(self):
         self.fails(InvalidRun, LAST.with_processes, p="q")
         self.fails(InvalidRun, LAST.with_processes, p="z", q="z")
+        idle = Run(LAST.letters, {**LAST.rows, "a": (), "z": ()})
+        for names in ({"a": "p"}, {"z": "p"}, {"a": "z"}, {"a": "q", "z": "c"}):
+            self.fails(InvalidRun, idle.with_processes_by, names)
         self.fails(InvalidRun, LAST.with_letters, a="b")
         self.fails(InvalidRun, LAST.with_letters_by, {"a": "x", "c": "x"})
 

@@ -14,7 +14,7 @@ def placings(run, pattern):
     check_pattern(pattern)
     check_choices(run, (pattern,))
     search = Search(run, pattern)
-    for row in search.rows_from(()):
+    for row in search.rows_from((), search.first_masks):
         yield search.placing(row)
 
 
@@ -72,7 +72,7 @@ def first_break(run, rule):
     _check_both(run, rule)
     for index, pattern in enumerate(rule.patterns):
         search = Search(run, pattern)
-        for row in search.rows_from(()):
+        for row in search.rows_from((), search.first_masks):
             return (index, search.placing(row))
     return None
 
@@ -82,7 +82,8 @@ def broken_patterns(run, rule):
     _check_both(run, rule)
     found = {}
     for index, pattern in enumerate(rule.patterns):
-        many = Search(run, pattern).many_from(())
+        search = Search(run, pattern)
+        many = search.many_from(0, search.first_masks)
         if many > 0:
             found[index] = many
     return found
@@ -105,5 +106,5 @@ def blamed(run, rule):
     letters = []
     for pattern in rule.patterns:
         search = Search(run, pattern)
-        letters.extend(search.letters_in(search.used_from(())))
+        letters.extend(search.letters_in(search.used_from(0, search.first_masks)))
     return tuple(sorted(set(letters)))

@@ -40,7 +40,7 @@ class Pattern:
     """Letters with kinds, conditions on their events, and groups of events. A pattern never changes."""
 
     def __init__(self, *, conditions=(), groups=(), **letters):
-        # A letter can have the name of a parameter; so `of` hands over all parts in the place of conditions.
+        # `of` hands over all parts in the place of conditions, since a letter can have the name of a parameter.
         parts = conditions if isinstance(conditions, Parts) else Parts(letters, conditions, groups)
         if _many_arrangements(parts.kept_groups) > MAX_ARRANGEMENTS:
             raise InvalidPattern("there are too many arrangements")
@@ -199,20 +199,18 @@ def is_arrangement(pattern, value):
     return all([_is_order_of(group, order) for group, order in zip(groups, value)])
 
 
-def _are_rule_patterns(value):
-    """Return whether a value is a tuple of one to six different patterns."""
-    if not isinstance(value, tuple) or not 1 <= len(value) <= MAX_RULE:
+def _are_different_patterns(values):
+    """Return whether these values are different patterns."""
+    if not all([isinstance(value, Pattern) for value in values]):
         return False
-    if not all([isinstance(part, Pattern) for part in value]):
-        return False
-    return not any([pattern in value[:at] for at, pattern in enumerate(value)])
+    return not any([pattern in values[:at] for at, pattern in enumerate(values)])
 
 
 class Rule:
     """One to six different patterns that are forbidden. A rule never changes."""
 
     def __init__(self, *patterns):
-        if not _are_rule_patterns(patterns):
+        if not 1 <= len(patterns) <= MAX_RULE or not _are_different_patterns(patterns):
             raise InvalidRule("these are not one to six different patterns")
         self._patterns = patterns
 

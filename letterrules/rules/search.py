@@ -64,7 +64,11 @@ def _bonds_hold(run, bonds, one, other):
 
 
 class Search:
-    """A pattern and a run in which it is placed."""
+    """A pattern and a run in which it is placed.
+
+    The letters of the pattern are told by their places among its ascending names. Behind some of them that are placed,
+    `masks` has for each further one the mask of the letters of the run that it can have.
+    """
 
     def __init__(self, run, pattern):
         self._run = run
@@ -73,36 +77,39 @@ class Search:
         self._letters = tuple(run.letters)
         self._places = {letter: at for at, letter in enumerate(self._letters)}
         self._fitting = [_fitting_letters(run, pattern, name) for name in self._names]
-        self._masks = [self._mask_of(letters) for letters in self._fitting]
         self._mates = [
             [self._mates_of(one, other) for other in range(len(self._names))] for one in range(len(self._names))
         ]
+        self.first_masks = [self._mask_of(letters) for letters in self._fitting]
 
-    def rows_from(self, head):
+    def rows_from(self, head, masks):
         """Yield all rows that begin with these places, ascending."""
-        is_last = len(head) + 1 == len(self._names)
-        for at in self._next_places(head):
+        is_last = len(masks) == 1
+        for at in places_in(masks[0]):
             row = (*head, at)
             if is_last:
                 yield row
             else:
-                yield from self.rows_from(row)
+                behind = self._masks_behind(len(head), at, masks)
+                yield from self.rows_from(row, behind)
 
-    def many_from(self, head):
-        """Return the number of rows that begin with these places."""
-        places = self._next_places(head)
-        is_last = len(head) + 1 == len(self._names)
-        return len(places) if is_last else sum([self.many_from((*head, at)) for at in places])
+    def many_from(self, first, masks):
+        """Return the number of rows from the first letter of the pattern on that is not placed."""
+        places = places_in(masks[0])
+        if len(masks) == 1:
+            return len(places)
+        return sum([self.many_from(first + 1, self._masks_behind(first, at, masks)) for at in places])
 
-    def used_from(self, head):
-        """Return the mask of all places behind these in the rows that begin with them."""
-        is_last = len(head) + 1 == len(self._names)
-        mask = 0
-        for at in self._next_places(head):
-            behind = 0 if is_last else self.used_from((*head, at))
-            if is_last or behind:
-                mask = mask | behind | (1 << at)
-        return mask
+    def used_from(self, first, masks):
+        """Return the mask of all places in these rows."""
+        if len(masks) == 1:
+            return masks[0]
+        used = 0
+        for at in places_in(masks[0]):
+            behind = self.used_from(first + 1, self._masks_behind(first, at, masks))
+            if behind:
+                used = used | behind | (1 << at)
+        return used
 
     def placing(self, row):
         """Return the placing that a whole row tells."""
@@ -136,10 +143,8 @@ class Search:
             mates[self._places[letter]] = self._mask_of(good)
         return mates
 
-    def _next_places(self, head):
-        """Return the places that the next letter of the pattern can have behind these."""
-        last = len(head)
-        mask = self._masks[last]
-        for one, at in enumerate(head):
-            mask = mask & self._mates[one][last][at]
-        return places_in(mask)
+    def _masks_behind(self, first, at, masks):
+        """Return the masks behind the first letter in this place; one empty mask if some letter has no place left."""
+        mates = self._mates[first]
+        behind = [mask & mates[first + far][at] for far, mask in enumerate(masks) if far > 0]
+        return behind if all(behind) else [0]
