@@ -74,11 +74,46 @@ class MakingTests(Case):
         names = {"self": None, "groups": ("k",), "letters": None, "cls": None}
         odd = Pattern.of(names, ((("send", "self"), ("read", "groups")),), ())
         self.same(odd.letters, {"cls": None, "groups": ("k",), "letters": None, "self": None})
-        self.assertIs(type(odd), Pattern)
+        self.assertIsInstance(odd, Pattern)
+        self.assertEqual(odd.of({"x": None}, (), ()), Pattern(x=None))
+        self.assertIs(type(Pattern.of({"x": None}, (), ())), Pattern)
         self.assertEqual(Pattern.of({"groups": None, "x": None}, (), ()).renamed({"groups": "y"}), Pattern(x=None, y=None))
         self.assertEqual(Pattern(x=None).renamed({"x": "self"}), Pattern.of({"self": None}, (), ()))
         self.assertEqual(Pattern(letters=None), Pattern.of({"letters": None}, (), ()))
         self.fails(InvalidPattern, Pattern.of, {"groups": 5}, (), ())
+
+    def test_letters_with_the_names_of_parameters(self):
+        # This one has ten letters, so it is no name.
+        self.fails(InvalidPattern, Pattern.of, {"conditions": None}, (), ())
+        self.fails(InvalidPattern, Pattern.of, {"conditions": (), "x": None}, (), ())
+        for name in ("self", "groups", "letters"):
+            event, letters = ("read", name), {name: ("k",), "x": None}
+            one = Pattern.of(letters, ((SX, event),), ((RX, event),))
+            letters["y"] = letters[name] = 5
+            self.same(one.letters, dict(sorted({name: ("k",), "x": None}.items())))
+            self.same(one.conditions, ((SX, event),))
+            self.same(one.groups, (tuple(sorted((RX, event))),))
+            self.assertEqual(one.renamed({name: "y"}), Pattern(conditions=((SX, RY),), groups=((RX, RY),), x=None, y=("k",)))
+            self.assertEqual(one & Pattern(y=None), one.with_letter("y"))
+            for value in others(tuple):
+                self.fails(InvalidPattern, Pattern.of, {name: None}, value, ())
+                self.fails(InvalidPattern, Pattern.of, {name: None}, (), value)
+            for value in (5, ("other",), one):
+                self.fails(InvalidPattern, Pattern.of, {name: value}, (), ())
+            five = {name: None, **dict.fromkeys("abcd")}
+            self.fails(InvalidPattern, Pattern.of, {**five, "e": None}, (), ())
+            sends = tuple(("send", part) for part in five)
+            self.fails(InvalidPattern, Pattern.of, five, (), (sends,))
+            many = (sends[:4], tuple(("read", part) for part in sorted(five)[1:]), (sends[4], ("read", sorted(five)[0])))
+            self.fails(InvalidPattern, Pattern.of, five, (), many)
+
+    def test_an_object_in_the_place_of_a_part(self):
+        for value in (CROSS, Pattern.of({"self": None}, (), ()), Rule(CROSS), (CROSS,), [CROSS], {"x": CROSS}):
+            self.fails(InvalidPattern, Pattern, conditions=value, x=None)
+            self.fails(InvalidPattern, Pattern, groups=value, x=None)
+            self.fails(InvalidPattern, Pattern, conditions=value)
+            self.fails(InvalidPattern, Pattern, y=value)
+            self.fails(InvalidPattern, Pattern.of, value, (), ())
 
     def test_wrong_letters(self):
         for name in ("A", "", "abcdefghi", "a_b", "_letters", "parts_"):

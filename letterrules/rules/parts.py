@@ -65,10 +65,16 @@ def _kept_groups(letters, groups):
     return kept
 
 
-class Parts:
-    """The letters, conditions and groups of a pattern, as it keeps them."""
+def many_arrangements(groups):
+    """Return how many arrangements a pattern with these groups has."""
+    many = 1
+    for group in groups:
+        for at in range(len(group)):
+            many = many * (at + 1)
+    return many
 
-    def __init__(self, letters, conditions, groups):
-        self.kinds_by_name = _kept_letters(letters)
-        self.kept_conditions = _kept_conditions(self.kinds_by_name, conditions)
-        self.kept_groups = _kept_groups(self.kinds_by_name, groups)
+
+def kept_parts(letters, conditions, groups):
+    """Return the letters, the conditions and the groups of a pattern, as it keeps them."""
+    kinds_by_name = _kept_letters(letters)
+    return kinds_by_name, _kept_conditions(kinds_by_name, conditions), _kept_groups(kinds_by_name, groups)

@@ -4,10 +4,11 @@ from letterrules.base.letters import is_event, is_name
 from letterrules.base.renaming import refuse_unknown, with_others
 from letterrules.base.values import are_different, is_integer
 from letterrules.errors import InvalidNumber, InvalidOperation, InvalidPattern, InvalidRule, UnknownName
-from letterrules.rules.parts import Parts
+from letterrules.rules.parts import kept_parts, many_arrangements
 
 MAX_ARRANGEMENTS = 600
 MAX_RULE = 6
+PARAMETERS = ("self", "conditions", "groups")
 
 
 def check_pattern(pattern):
@@ -22,13 +23,19 @@ def check_rule(rule):
         raise InvalidRule("this is not a rule")
 
 
-def _many_arrangements(groups):
-    """Return how many arrangements a pattern with these groups has."""
-    many = 1
-    for group in groups:
-        for at in range(len(group)):
-            many = many * (at + 1)
-    return many
+def _can_be_keywords(letters):
+    """Return whether a value is a dict that can be passed as the keywords of a pattern's letters."""
+    if not isinstance(letters, dict) or not all([isinstance(name, str) for name in letters]):
+        return False
+    return not any([name in letters for name in PARAMETERS])
+
+
+def _parts_of(letters, conditions, groups):
+    """Return the three parts of a pattern, as it keeps them; refuse those of which there is no pattern."""
+    parts = kept_parts(letters, conditions, groups)
+    if many_arrangements(parts[2]) > MAX_ARRANGEMENTS:
+        raise InvalidPattern("there are too many arrangements")
+    return parts
 
 
 def _with_names(rows, names):
@@ -40,19 +47,15 @@ class Pattern:
     """Letters with kinds, conditions on their events, and groups of events. A pattern never changes."""
 
     def __init__(self, *, conditions=(), groups=(), **letters):
-        # `of` hands over all parts in the place of conditions, since a letter can have the name of a parameter.
-        parts = conditions if isinstance(conditions, Parts) else Parts(letters, conditions, groups)
-        if _many_arrangements(parts.kept_groups) > MAX_ARRANGEMENTS:
-            raise InvalidPattern("there are too many arrangements")
-        self._letters = parts.kinds_by_name
-        self._conditions = parts.kept_conditions
-        self._groups = parts.kept_groups
+        self._letters, self._conditions, self._groups = _parts_of(letters, conditions, groups)
 
     @classmethod
     def of(cls, letters, conditions, groups):
         """Return the pattern with these letters, a dict, and these conditions and groups."""
-        parts = Parts(letters, conditions, groups)
-        return cls(conditions=parts)
+        if not _can_be_keywords(letters):
+            return TakenPattern(letters, conditions, groups)
+        keywords = {**letters, "conditions": conditions, "groups": groups}
+        return Pattern(**keywords)
 
     @property
     def letters(self):
@@ -161,6 +164,13 @@ class Pattern:
         for event in events:
             if event not in self:
                 raise UnknownName(event)
+
+
+class TakenPattern(Pattern):
+    """A pattern with a letter whose name is taken by a parameter, so that it cannot be passed as a keyword."""
+
+    def __init__(self, letters, conditions, groups):
+        self._letters, self._conditions, self._groups = _parts_of(letters, conditions, groups)
 
 
 def _all_orders(events):
