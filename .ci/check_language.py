@@ -312,6 +312,8 @@ def check_functions(path, tree):
                 check_plain_method(path, node)
         if isinstance(node, ast.ClassDef) and node.decorator_list:
             complain(path, node, "L4", "a decorator over a class")
+        if isinstance(node, ast.ClassDef) and not node.name[0].isalpha():
+            complain(path, node, "L12", f"the class name {node.name}")
 
 
 def check_plain_method(path, node):

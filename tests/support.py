@@ -1,6 +1,8 @@
 """What several tests use."""
 
 import doctest
+import math
+import random
 import unittest
 
 from letterrules.base.orders import Order
@@ -67,15 +69,54 @@ def some_run(chance, many, processes="pqr", read=0.9, kinds=("k",)):
     return Run(letters, {process: tuple(row) for process, row in rows.items()})
 
 
-def naive_ahead(run):
-    """Return the set of all pairs of events of which the first one is ahead, found in the plainest way."""
-    steps = {(row[at], row[at + 1]) for row in run.rows.values() for at in range(len(row) - 1)}
-    steps |= {(("send", name), ("read", name)) for name in run.letters if name not in run.unread}
+def closed_steps(steps):
+    """Return the set of all pairs that follow from some steps, found in the plainest way."""
+    steps = set(steps)
     while True:
         more = {(a, d) for a, b in steps for c, d in steps if b == c} - steps
         if not more:
             return steps
         steps |= more
+
+
+def naive_ahead(run):
+    """Return the set of all pairs of events of which the first one is ahead, found in the plainest way."""
+    steps = {(row[at], row[at + 1]) for row in run.rows.values() for at in range(len(row) - 1)}
+    return closed_steps(steps | {(("send", name), ("read", name)) for name in run.letters if name not in run.unread})
+
+
+def given_steps(pattern, arrangement):
+    """Return the set of the pairs of events of which the first one is given ahead of the other one [6.1]."""
+    steps = set(pattern.conditions) | {(("send", name), ("read", name)) for name in pattern}
+    return steps | {(row[at], row[at + 1]) for row in arrangement for at in range(len(row) - 1)}
+
+
+def some_pattern(chance, many, conditions=2, groups=1, kinds=(None,)):
+    """Return a pattern with so many letters, conditions that may be equal, and at most so many groups.
+
+    It has at most 48 arrangements.
+    """
+    letters = {name: chance.choice(kinds) for name in "vwxyz"[-many:]}
+    events = [(word, name) for word in ("send", "read") for name in letters]
+    pairs = tuple((chance.choice(events), chance.choice(events)) for _ in range(conditions))
+    rows = []
+    left = chance.sample(events, len(events))
+    for _ in range(groups):
+        row, size = [], chance.randint(2, 4)
+        for event in list(left):
+            if len(row) < size and all(event[1] != other[1] for other in row):
+                row.append(event)
+                left.remove(event)
+        if math.prod(math.factorial(len(group)) for group in (*rows, row)) <= 48:
+            rows.append(tuple(row))
+    return Pattern.of(letters, pairs, tuple(rows))
+
+
+def many_patterns(seed, many=60, kinds=(None,), most=5):
+    """Yield patterns of one to five letters, with and without groups."""
+    chance = random.Random(seed)
+    for at in range(many):
+        yield some_pattern(chance, 1 + at % most, chance.randrange(5), chance.randrange(4), kinds)
 
 
 class Case(unittest.TestCase):

@@ -15,6 +15,15 @@ FUNCTIONS = {
     "letterrules.rules.patterns": "arrangements(pattern) is_arrangement(pattern,value)",
     "letterrules.rules.breaks": """placings(run,pattern) is_placing(run,pattern,value) breaks(run,rule)
         first_break(run,rule) broken_patterns(run,rule) arrangement_of(run,pattern,placing) blamed(run,rule)""",
+    "letterrules.own.orders": """own_orders(pattern) ring_in(pattern,arrangement) is_ring_in(pattern,arrangement,value)
+        pair_in(order) late_in(order) crown_in(order) is_pair_in(order,value) is_late_in(order,value)
+        is_crown_in(order,value)""",
+    "letterrules.own.ownruns": """own_run(order,*,kinds=None,helper='other') is_own_run(order,value)
+        own_runs(rule,among) held_order(run,pattern,placing) is_held(run,order,value)""",
+    "letterrules.answers.answers": """answer(rule) pattern_answer(pattern) kept_paper(rule,among)
+        is_kept_paper(rule,among,value) breaking_paper(rule,among) is_breaking_paper(rule,among,value)
+        answer_paper(rule) is_answer_paper(rule,value) hardest(rule) needed(pattern) answers_without(pattern)
+        sort_for(among) set_for(sort)""",
 }
 METHODS = {
     ("letterrules.base.orders", "Order"): """__init__(self,things,*pairs) of(things,pairs) line(things)
@@ -29,14 +38,18 @@ METHODS = {
         with_condition(self,event,other) without_condition(self,event,other) with_group(self,*events)
         without_group(self,event) renamed(self,names)""",
     ("letterrules.rules.patterns", "Rule"): "__init__(self,*patterns) of(patterns) without(self,*indices)",
+    ("letterrules.own.orders", "OwnOrder"): """__init__(self,pattern,arrangement) __call__(self,event,other)
+        between(self,event,other) all_rows(self) is_within(self,value)""",
 }
 SIGNS = {
     "Order": "or invert eq str len iter contains", "Run": "add eq str len iter contains",
     "Pattern": "and eq str len iter contains", "Rule": "or eq str len iter contains getitem",
+    "OwnOrder": "eq str len iter contains getitem",
 }
 PROPERTIES = {
     "Order": "things pairs next_pairs firsts lasts", "Run": "letters rows processes order unread is_whole",
     "Pattern": "letters conditions groups kinds", "Rule": "patterns kinds",
+    "OwnOrder": "pattern arrangement events next_pairs run_set",
 }
 
 

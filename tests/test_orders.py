@@ -8,7 +8,7 @@ from letterrules.base import orders
 from letterrules.base.letters import new_names
 from letterrules.base.orders import MAX_THINGS, Order, is_ring, ring_of
 from letterrules.errors import InvalidOperation, InvalidOrder, UnknownName
-from support import DEEP, HUGE, VALUES, Case
+from support import DEEP, HUGE, VALUES, Case, closed_steps
 
 EXAMPLES = """
 >>> order = Order(("a", "b", "c", "d"), ("a", "b"), ("b", "d"), ("c", "d"))
@@ -30,16 +30,6 @@ WRONG_PAIRS = (
     (("a", "c"),), (("c", "a"),), (("a", None),), (([], "a"),), (("a", {}),), ((True, "a"),), (("a", Order(())),), ((),),
     (("a", "b"), ("a", "A")), (("a", "b"), None), Order(("a", "b")), DEEP, ((("a", "b"), ("a", "b")),),
 )
-
-
-def naive_closure(things, pairs):
-    """All pairs that follow, found in the plainest way."""
-    found = set(pairs)
-    while True:
-        more = {(a, d) for a, b in found for c, d in found if b == c} - found
-        if not more:
-            return found
-        found |= more
 
 
 def some_pairs(chance, things, many):
@@ -109,7 +99,7 @@ class RingTests(Case):
             things = tuple(range(chance.randint(1, 7)))
             pairs = tuple((chance.choice(things), chance.choice(things)) for _ in range(chance.randint(0, 9)))
             ring = ring_of(things, pairs)
-            self.assertEqual(ring is None, all(a != b for a, b in naive_closure(things, pairs)))
+            self.assertEqual(ring is None, all(a != b for a, b in closed_steps(pairs)))
             if ring is None:
                 Order(things, *pairs)
             else:
@@ -324,7 +314,7 @@ class NaiveTests(Case):
             things = tuple(chance.sample(("a", "b", "c", SEND, READ, 0), chance.randint(2, 5)))
             pairs = some_pairs(chance, things, chance.randint(0, 6))
             order = Order(things, *pairs)
-            all_pairs = naive_closure(things, pairs)
+            all_pairs = closed_steps(pairs)
             told = [pair for pair in itertools.product(things, repeat=2) if pair in all_pairs]
             self.same(order.pairs, tuple(told))
             near = [(a, b) for a, b in told if not any((a, c) in told and (c, b) in told for c in things)]

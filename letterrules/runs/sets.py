@@ -1,5 +1,6 @@
 """The four sets of whole runs, and what shows that a run is not in one of them."""
 
+from letterrules.base.crowns import is_crown_of, least_crown
 from letterrules.base.letters import is_name
 from letterrules.base.values import are_different
 from letterrules.errors import InvalidOperation
@@ -12,6 +13,11 @@ def check_among(among):
     """Refuse what is none of the words for the sets."""
     if among not in SETS:
         raise InvalidOperation("this is none of the sets")
+
+
+def lies_within(word, among):
+    """Return whether the set with a word is another set or is contained in it."""
+    return SETS.index(word) >= SETS.index(among)
 
 
 def _check_whole(run):
@@ -50,30 +56,6 @@ def _followers(run):
     return followers
 
 
-def _crown_from(followers, first):
-    """Return a crown that begins with a letter, with the fewest letters, or None."""
-    ways = [(first,)]
-    seen = {}
-    while ways:
-        longer = []
-        for way in ways:
-            for letter in followers[way[-1]]:
-                if letter == first:
-                    return way
-                if letter not in seen:
-                    seen[letter] = True
-                    longer.append((*way, letter))
-        ways = longer
-    return None
-
-
-def _least_crown(run):
-    """Return a crown with the fewest letters, or None."""
-    followers = _followers(run)
-    crowns = [_crown_from(followers, letter) for letter in followers]
-    return min([crown for crown in crowns if crown is not None], key=len, default=None)
-
-
 def _pairs_in(run):
     """Return all pairs of a run, ascending."""
     letters = run.letters
@@ -86,16 +68,8 @@ def _bars(run, among):
         return _pairs_in(run)
     if among == "causal":
         return _all_late(run)
-    crown = _least_crown(run) if among == "single" else None
+    crown = least_crown(_followers(run)) if among == "single" else None
     return [] if crown is None else [crown]
-
-
-def _is_crown(run, value):
-    """Return whether a tuple of letters of the run is a crown."""
-    if len(value) < 2 or not are_different(value):
-        return False
-    behind = [*value[1:], value[0]]
-    return all([run.ahead(("send", one), ("read", other)) for one, other in zip(value, behind)])
 
 
 def _are_letters(run, value):
@@ -121,7 +95,7 @@ def _is_bar(run, among, value):
     if among == "all" or not _are_letters(run, value):
         return False
     if among == "single":
-        return _is_crown(run, value)
+        return is_crown_of(_followers(run), value)
     return len(value) == 2 and _is_pair(run, value[0], value[1])
 
 
@@ -176,7 +150,7 @@ def all_pairs(run):
 def shortest_crown(run):
     """Return a crown of a whole run with the fewest letters, or None."""
     _check_whole(run)
-    return _least_crown(run)
+    return least_crown(_followers(run))
 
 
 def letter_row(run):

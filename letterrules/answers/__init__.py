@@ -1,0 +1,1 @@
+"""Answers to rules, and rules that follow from others."""

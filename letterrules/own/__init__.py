@@ -1,0 +1,1 @@
+"""Own orders of patterns, and the runs that have them."""
