@@ -1,13 +1,12 @@
 """The answers to rules: by which sort of transports they can be kept; and papers that show it."""
 
-from letterrules.base.values import is_integer
 from letterrules.errors import InvalidOperation
 from letterrules.own.orders import (
     OwnOrder, crown_in, is_crown_in, is_late_in, is_pair_in, is_ring_in, late_in, own_orders, pair_in, ring_in,
 )
 from letterrules.own.ownruns import own_runs
 from letterrules.rules.breaks import is_placing
-from letterrules.rules.patterns import arrangements, check_pattern, check_rule, is_arrangement
+from letterrules.rules.patterns import arrangements, check_pattern, check_rule, is_arrangement, is_index
 from letterrules.runs.runs import Run
 from letterrules.runs.sets import SETS, check_among, is_in
 
@@ -78,11 +77,6 @@ def _is_key(rule, value):
         return False
     index, arrangement = value
     return is_index(rule, index) and is_arrangement(rule[index], arrangement)
-
-
-def is_index(rule, value):
-    """Return whether a value is the index of a pattern of a rule."""
-    return is_integer(value) and 0 <= value < len(rule)
 
 
 def kept_paper(rule, among):

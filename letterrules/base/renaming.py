@@ -13,3 +13,9 @@ def refuse_unknown(names, known):
 def with_others(names, known):
     """Return the new name of each known name; those that have none stay."""
     return {name: names.get(name, name) for name in known}
+
+
+def renamed_event(event, names):
+    """Return the same event of the letter that has the new name."""
+    word, name = event
+    return (word, names[name])

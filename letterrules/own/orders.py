@@ -69,7 +69,7 @@ class OwnOrder:
         """The word for the set of the order."""
         if _pairs_of(self):
             return "all"
-        if _lates_of(self):
+        if lates_of(self):
             return "pairs"
         return "single" if least_crown(_followers(self)) is None else "causal"
 
@@ -124,7 +124,7 @@ class OwnOrder:
                 raise UnknownName(event)
 
 
-def _are_together(order, event, other):
+def are_together(order, event, other):
     """Return whether two events are known to be at one process."""
     return any([event in group and other in group for group in order.pattern.groups])
 
@@ -132,7 +132,7 @@ def _are_together(order, event, other):
 def _is_pair(order, one, other):
     """Return whether it is known that the second letter overtakes the first one."""
     sendings, readings = (("send", one), ("send", other)), (("read", other), ("read", one))
-    return all([order.ahead(*pair) and _are_together(order, *pair) for pair in (sendings, readings)])
+    return all([order.ahead(*pair) and are_together(order, *pair) for pair in (sendings, readings)])
 
 
 def _is_late(order, letter, event):
@@ -145,7 +145,7 @@ def _pairs_of(order):
     return [(one, other) for one in order.pattern for other in order.pattern if _is_pair(order, one, other)]
 
 
-def _lates_of(order):
+def lates_of(order):
     """Return all pairs of a late letter and an event by which it is late, ascending."""
     return [(letter, event) for letter in order.pattern for event in order.events if _is_late(order, letter, event)]
 
@@ -188,7 +188,7 @@ def pair_in(order):
 def late_in(order):
     """Return the least pair of a late letter and an event by which it is late, or None."""
     check_own_order(order)
-    lates = _lates_of(order)
+    lates = lates_of(order)
     return lates[0] if lates else None
 
 

@@ -1,6 +1,7 @@
 """Own runs: runs in which letters are ahead of one another just as an own order asks."""
 
 from letterrules.base.letters import is_name, new_names
+from letterrules.base.renaming import renamed_event
 from letterrules.errors import InvalidName, InvalidOperation
 from letterrules.own.orders import OwnOrder, check_own_order, own_orders
 from letterrules.rules.breaks import arrangement_of, is_placing
@@ -106,17 +107,11 @@ def own_run(order, *, kinds=None, helper="other"):
     return (Run(letters, rows), {name: name for name in order.pattern})
 
 
-def _placed(event, placing):
-    """Return the event of the run that stands for one of the pattern."""
-    word, name = event
-    return (word, placing[name])
-
-
 def _is_ahead_as_in(run, order, placing):
     """Return whether placed events are ahead of one another exactly as in an own order."""
     pairs = [(event, other) for event in order.events for other in order.events]
     return all([
-        run.ahead(_placed(event, placing), _placed(other, placing)) == order.ahead(event, other)
+        run.ahead(renamed_event(event, placing), renamed_event(other, placing)) == order.ahead(event, other)
         for event, other in pairs
     ])
 
@@ -156,4 +151,4 @@ def is_held(run, order, value):
         return False
     if not all([("read", letter) in run for letter in value.values()]):
         return False
-    return all([run.ahead(_placed(event, value), _placed(other, value)) for event, other in order])
+    return all([run.ahead(renamed_event(event, value), renamed_event(other, value)) for event, other in order])

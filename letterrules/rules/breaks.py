@@ -1,6 +1,7 @@
 """Runs that break patterns and rules."""
 
 from letterrules.base.letters import is_name
+from letterrules.base.renaming import renamed_event
 from letterrules.base.values import are_different
 from letterrules.errors import InvalidOperation
 from letterrules.rules.patterns import check_pattern, check_rule
@@ -31,7 +32,7 @@ def _is_choice(run, pattern, value):
 
 def _placed(rows, placing):
     """Return the events of the run that stand for those of some tuples."""
-    return [[(word, placing[name]) for word, name in row] for row in rows]
+    return [[renamed_event(event, placing) for event in row] for row in rows]
 
 
 def _holds(run, pattern, choice):
@@ -67,6 +68,14 @@ def breaks(run, rule):
     return first_break(run, rule) is not None
 
 
+def has_placing(run, pattern):
+    """Return whether a pattern has a placing in a run, however many choices of letters there are."""
+    search = Search(run, pattern)
+    for _ in search.rows_from((), search.first_masks):
+        return True
+    return False
+
+
 def first_break(run, rule):
     """Return the index of the first pattern that a run breaks with its first placing, or None."""
     _check_both(run, rule)
@@ -95,7 +104,7 @@ def arrangement_of(run, pattern, placing):
         raise InvalidOperation("this is not a placing of the pattern in the run")
     orders = []
     for group in pattern.groups:
-        spots = [(run.place((word, placing[name])), (word, name)) for word, name in group]
+        spots = [(run.place(renamed_event(event, placing)), event) for event in group]
         orders.append(tuple([event for _, event in sorted(spots)]))
     return tuple(orders)
 

@@ -1,7 +1,7 @@
 """Patterns of letters, and the rules that forbid them."""
 
 from letterrules.base.letters import is_event, is_name
-from letterrules.base.renaming import refuse_unknown, with_others
+from letterrules.base.renaming import refuse_unknown, renamed_event, with_others
 from letterrules.base.values import are_different, is_integer
 from letterrules.errors import InvalidNumber, InvalidOperation, InvalidPattern, InvalidRule, UnknownName
 from letterrules.rules.parts import kept_parts, many_arrangements
@@ -40,7 +40,7 @@ def _parts_of(letters, conditions, groups):
 
 def _with_names(rows, names):
     """Return tuples of events with the new names of all letters."""
-    return tuple([tuple([(word, names[name]) for word, name in row]) for row in rows])
+    return tuple([tuple([renamed_event(event, names) for event in row]) for row in rows])
 
 
 class Pattern:
@@ -216,6 +216,11 @@ def _are_different_patterns(values):
     return not any([pattern in values[:at] for at, pattern in enumerate(values)])
 
 
+def is_index(rule, value):
+    """Return whether a value is the index of a pattern of a rule."""
+    return is_integer(value) and 0 <= value < len(rule)
+
+
 class Rule:
     """One to six different patterns that are forbidden. A rule never changes."""
 
@@ -274,5 +279,5 @@ class Rule:
 
     def _check_index(self, index):
         """Refuse what is no position of a pattern."""
-        if not is_integer(index) or not 0 <= index < len(self._patterns):
+        if not is_index(self, index):
             raise InvalidNumber(index)

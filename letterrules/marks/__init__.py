@@ -1,0 +1,1 @@
+"""Markings: what letters carry, what processes know by that, and the least markings that keep a rule."""

@@ -1,0 +1,1 @@
+"""Plays: what transports do, step by step."""
