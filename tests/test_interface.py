@@ -24,6 +24,16 @@ FUNCTIONS = {
         is_kept_paper(rule,among,value) breaking_paper(rule,among) is_breaking_paper(rule,among,value)
         answer_paper(rule) is_answer_paper(rule,value) hardest(rule) needed(pattern) answers_without(pattern)
         sort_for(among) set_for(sort)""",
+    "letterrules.answers.follows": """cases(pattern,*,among='all') maps(pattern,other,arrangement,choice)
+        follows(rule,other,*,among='all') are_alike(rule,other,*,among='all') follow_paper(rule,other,*,among='all')
+        is_follow_paper(rule,other,value,*,among='all') core(rule,*,among='all') is_core(rule,value,*,among='all')
+        idle_conditions(pattern)""",
+    "letterrules.marks.known": """known(run,marking,process,place) trail(run,marking,letter,process,place)
+        is_trail(run,marking,letter,process,place,value) is_calm(run,marking) uncalm(run,marking)
+        is_uncalm(run,marking,value)""",
+    "letterrules.marks.least": """ways(order) is_way(order,value) demand(order,way) keeps(rule,marking)
+        keeping_paper(rule,marking) is_keeping_paper(rule,marking,value) breaking_run(rule,marking)
+        is_breaking_run(rule,marking,value) least_markings(rule) cheapest(rule,prices)""",
 }
 METHODS = {
     ("letterrules.base.orders", "Order"): """__init__(self,things,*pairs) of(things,pairs) line(things)
@@ -40,16 +50,34 @@ METHODS = {
     ("letterrules.rules.patterns", "Rule"): "__init__(self,*patterns) of(patterns) without(self,*indices)",
     ("letterrules.own.orders", "OwnOrder"): """__init__(self,pattern,arrangement) __call__(self,event,other)
         between(self,event,other) all_rows(self) is_within(self,value)""",
+    ("letterrules.marks.known", "Marking"): """__init__(self,*,other='nothing',**kinds) of(words) even(word)
+        with_word(self,kind,word) is_at_most(self,value)""",
+    ("letterrules.plays.plays", "Transport"): """__init__(self,marking,*,may_send=None,may_read=None,number=None,note=None)
+        lets_send(self,view,letter) lets_read(self,view,letter) mark_of(self,view,letter,kind,reader)""",
+    ("letterrules.plays.plays", "Play"): """__init__(self,transport,*processes) of(transport,processes) run(self)
+        is_quiet(self) is_still(self) view(self,process) mark(self,letter) do(self,step) do_all(self,steps)
+        wish(self,letter,kind,sender,reader) send(self,letter) come(self,letter) read(self,letter) may(self,value)
+        next_steps(self) back(self,*,many=1) trial(self) attempt(self,action) twin(self)""",
 }
 SIGNS = {
     "Order": "or invert eq str len iter contains", "Run": "add eq str len iter contains",
     "Pattern": "and eq str len iter contains", "Rule": "or eq str len iter contains getitem",
-    "OwnOrder": "eq str len iter contains getitem",
+    "OwnOrder": "eq str len iter contains getitem", "Marking": "or and eq str len iter getitem", "Transport": "",
+    "Play": "eq str len iter",
 }
 PROPERTIES = {
     "Order": "things pairs next_pairs firsts lasts", "Run": "letters rows processes order unread is_whole",
     "Pattern": "letters conditions groups kinds", "Rule": "patterns kinds",
-    "OwnOrder": "pattern arrangement events next_pairs run_set",
+    "OwnOrder": "pattern arrangement events next_pairs run_set", "Marking": "other kinds", "Transport": "marking",
+    "Play": "transport processes steps letters under_way pending",
+}
+CONSTANTS = {
+    "letterrules.base.orders": {"MAX_THINGS": 240}, "letterrules.runs.runs": {"MAX_LETTERS": 60, "MAX_PROCESSES": 40},
+    "letterrules.runs.sets": {"SETS": ("all", "pairs", "causal", "single")},
+    "letterrules.rules.patterns": {"MAX_ARRANGEMENTS": 600, "MAX_RULE": 6},
+    "letterrules.answers.answers": {"ANSWERS": ("nothing", "numbers", "notes", "letters", "never")},
+    "letterrules.answers.follows": {"MAX_CASES": 2000},
+    "letterrules.marks.known": {"WORDS": ("nothing", "numbers", "notes")},
 }
 
 
@@ -82,6 +110,11 @@ class InterfaceTests(unittest.TestCase):
                 self.assertIn(f"__{sign}__", vars(found))
             for word in PROPERTIES[title].split():
                 self.assertIsInstance(vars(found)[word], property)
+
+    def test_constants(self):
+        for name, values in CONSTANTS.items():
+            for constant, value in values.items():
+                self.assertEqual(getattr(importlib.import_module(name), constant), value)
 
 
 if __name__ == "__main__":
