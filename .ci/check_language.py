@@ -263,6 +263,40 @@ def check_calls(path, tree, own_methods, generators):
             complain(path, node, "L5", "reversed of something else")
 
 
+def is_name_or_attribute(node):
+    return isinstance(node, ast.Name) or isinstance(node, ast.Attribute) and isinstance(node.value, ast.Name)
+
+
+def check_stars(path, tree):
+    """L7: what stands behind a star or two in a call."""
+    for node in ast.walk(tree):
+        if not isinstance(node, ast.Call):
+            continue
+        for part in node.args:
+            if isinstance(part, ast.Starred) and not is_name_or_attribute(part.value):
+                complain(path, part, "L7", "a star before something else")
+        double = [word for word in node.keywords if word.arg is None]
+        if double and (len(node.keywords) > 1 or not is_name_or_attribute(double[0].value)):
+            complain(path, node, "L7", "two stars beside or before something else")
+
+
+def check_blocks(path, tree):
+    """L6: what `with` stands over, and what `__exit__` does."""
+    for node in ast.walk(tree):
+        if isinstance(node, ast.With):
+            for item in node.items:
+                if not isinstance(item.context_expr, (ast.Call, ast.Name, ast.Attribute)):
+                    complain(path, node, "L6", "with over something else")
+                if item.optional_vars is not None and not isinstance(item.optional_vars, ast.Name):
+                    complain(path, node, "L6", "with as something else")
+        if isinstance(node, ast.FunctionDef) and node.name == "__exit__":
+            for part in node.body:
+                fine = isinstance(part, ast.Assign) and isinstance(part.value, ast.Attribute) and all(
+                    isinstance(target, ast.Attribute) for target in part.targets)
+                if not fine:
+                    complain(path, part, "L6", "a statement of __exit__")
+
+
 def check_nodes(path, tree, own_names, error_names):
     for node in ast.walk(tree):
         if isinstance(node, NO_NODES):
@@ -500,6 +534,8 @@ def main(package):
         check_calls(path, tree, own_methods, generators)
         check_nodes(path, tree, own_names, error_names)
         check_functions(path, tree)
+        check_stars(path, tree)
+        check_blocks(path, tree)
         used_imports(path, tree)
     check_operators(trees)
     check_classes(trees, functions)

@@ -5,9 +5,8 @@ from letterrules.own.orders import (
     OwnOrder, crown_in, is_crown_in, is_late_in, is_pair_in, is_ring_in, late_in, own_orders, pair_in, ring_in,
 )
 from letterrules.own.ownruns import own_runs
-from letterrules.rules.breaks import is_placing
+from letterrules.rules.breaks import is_break
 from letterrules.rules.patterns import arrangements, check_pattern, check_rule, is_arrangement, is_index
-from letterrules.runs.runs import Run
 from letterrules.runs.sets import SETS, check_among, is_in
 
 ANSWERS = ("nothing", "numbers", "notes", "letters", "never")
@@ -109,12 +108,7 @@ def is_breaking_paper(rule, among, value):
     """Return whether a value is a breaking paper of a rule and a set."""
     check_rule(rule)
     check_among(among)
-    if not isinstance(value, tuple) or len(value) != 3:
-        return False
-    index, run, placing = value
-    if not is_index(rule, index) or not isinstance(run, Run) or not run.is_whole:
-        return False
-    return is_in(run, among) and is_placing(run, rule[index], placing)
+    return is_break(rule, value) and is_in(value[1], among)
 
 
 def answer_paper(rule):

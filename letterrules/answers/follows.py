@@ -6,10 +6,9 @@ from letterrules.base.values import are_different, is_integer
 from letterrules.errors import InvalidOperation, TooMany
 from letterrules.own.orders import OwnOrder, are_together, check_arrangement, own_orders, ring_in
 from letterrules.own.ownruns import own_run
-from letterrules.rules.breaks import has_placing, is_placing
+from letterrules.rules.breaks import has_placing, is_break
 from letterrules.rules.parts import many_arrangements
 from letterrules.rules.patterns import Rule, check_pattern, check_rule, is_index
-from letterrules.runs.runs import Run
 from letterrules.runs.sets import check_among, is_in, lies_within
 
 MAX_CASES = 2000
@@ -178,9 +177,7 @@ def _are_maps(rule, other, value, among):
 def _is_parting(rule, other, value, among):
     """Return whether a value is a run of a set that keeps the rule, with an index and a placing of the other one."""
     run, index, placing = value
-    if not isinstance(run, Run) or not run.is_whole or not is_in(run, among):
-        return False
-    if not is_index(other, index) or not is_placing(run, other[index], placing):
+    if not is_break(other, (index, run, placing)) or not is_in(run, among):
         return False
     return not any([has_placing(run, pattern) for pattern in rule.patterns])
 

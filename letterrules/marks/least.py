@@ -6,9 +6,8 @@ from letterrules.errors import InvalidOperation, TooMany
 from letterrules.marks.known import WORDS, Marking, check_marking, is_calm
 from letterrules.own.orders import are_together, check_own_order, is_late_in, own_orders
 from letterrules.own.ownruns import own_run
-from letterrules.rules.breaks import is_placing
+from letterrules.rules.breaks import is_break
 from letterrules.rules.patterns import check_rule, is_index
-from letterrules.runs.runs import Run
 
 MAX_NAMED = 8
 
@@ -175,12 +174,7 @@ def breaking_run(rule, marking):
 def is_breaking_run(rule, marking, value):
     """Return whether a value is such a tuple."""
     _check_both(rule, marking)
-    if not isinstance(value, tuple) or len(value) != 3:
-        return False
-    index, run, placing = value
-    if not is_index(rule, index) or not isinstance(run, Run) or not run.is_whole:
-        return False
-    return is_calm(run, marking) and is_placing(run, rule[index], placing)
+    return is_break(rule, value) and is_calm(value[1], marking)
 
 
 def _check_named(rule):

@@ -4,9 +4,9 @@ from letterrules.base.letters import is_name
 from letterrules.base.renaming import renamed_event
 from letterrules.base.values import are_different
 from letterrules.errors import InvalidOperation
-from letterrules.rules.patterns import check_pattern, check_rule
+from letterrules.rules.patterns import check_pattern, check_rule, is_index
 from letterrules.rules.search import Search, check_choices, fits
-from letterrules.runs.runs import check_run
+from letterrules.runs.runs import Run, check_run
 
 
 def placings(run, pattern):
@@ -54,6 +54,16 @@ def is_placing(run, pattern, value):
     check_run(run)
     check_pattern(pattern)
     return _is_choice(run, pattern, value) and _holds(run, pattern, value)
+
+
+def is_break(rule, value):
+    """Return whether a value tells the index of a pattern, a whole run, and a placing of the pattern in it."""
+    if not isinstance(value, tuple) or len(value) != 3:
+        return False
+    index, run, placing = value
+    if not is_index(rule, index) or not isinstance(run, Run) or not run.is_whole:
+        return False
+    return is_placing(run, rule[index], placing)
 
 
 def _check_both(run, rule):
