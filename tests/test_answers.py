@@ -222,7 +222,8 @@ class PaperTests(Case):
             self.assertIs(is_kept_paper(rule, among, {**paper, key: right}), True)
             for wrong in (right[:-1], (*right, "x"), ("pair", "y", "x"), ("pair", "x", "z"), ("late", "y", RX), ("late", "x", RX),
                           ("pair", ("x", "y")), ("late", ("x", RY)), ("crown", "x"), (), right[0], list(right), ("pair", ["x"], "y"),
-                          ("late", ["x"], RY), ("crown", (["x"], "y"))):
+                          ("late", ["x"], RY), ("crown", (["x"], "y")), ("late", "x", "y"), ("pair", "x", RY), ("pair", ("x", "y")),
+                          ("junk", *right[1:])):
                 self.assertIs(is_kept_paper(rule, among, {**paper, key: wrong}), False)
         self.assertIs(is_kept_paper(rule, "all", {**kept_paper(rule, "pairs")}), False)
 

@@ -127,6 +127,13 @@ class CaseTests(Case):
         self.same(len(list(one)), 1942)
         self.same(len(list(other)), 1942)
 
+    def test_letters_of_any_kind_have_one_choice(self):
+        events = [(word, name) for word in ("send", "read") for name in "vwxy"]
+        pattern = Pattern.of(dict.fromkeys("vwxyz"), (), (tuple(events[:4]), tuple(events[4:])))
+        self.same(len(list(cases(pattern.with_letter("z", *"abc")))), 1728)
+        steps = cases(pattern.with_letter("z", *"abcd"))
+        self.fails_with(TooMany, 2000, next, steps)
+
     def test_errors_come_with_the_first_value(self):
         for value in others(Pattern):
             steps = cases(value, among=5)
@@ -180,6 +187,10 @@ class MapTests(Case):
         row = ((RY, RX),)
         for value in others(Pattern):
             steps = maps(value, 5, 5, 5)
+            self.fails(InvalidPattern, next, steps)
+            steps = maps(value, ANY, (), (None,))
+            self.fails(InvalidPattern, next, steps)
+            steps = maps(value, ANY, 5, 5)
             self.fails(InvalidPattern, next, steps)
             steps = maps(CROSS, value, 5, 5)
             self.fails(InvalidPattern, next, steps)
@@ -273,12 +284,17 @@ class FollowTests(Case):
                     self.fails(InvalidOperation, function, more, among=value)
             for value in others(Rule):
                 self.fails(InvalidRule, function, value, among=5)
+                self.fails(InvalidRule, function, value)
         self.fails_with(TooMany, 2000, idle_conditions, MORE)
         for value in others(Pattern):
             self.fails(InvalidPattern, idle_conditions, value)
         for function in (follows, follow_paper, are_alike, lambda one, other, **more: is_follow_paper(one, other, 5, **more)):
             for value in others(Rule):
                 self.fails(InvalidRule, function, value, 5, among=5)
+                self.fails(InvalidRule, function, value, Rule(CROSS), among=5)
+                self.fails(InvalidRule, function, value, Rule(CROSS))
+                self.fails(InvalidRule, function, value, more)
+                self.fails(InvalidRule, function, Rule(CROSS), value)
                 self.fails(InvalidRule, function, more, value, among=5)
             for value in VALUES:
                 if value != "all":
@@ -322,6 +338,20 @@ class PaperTests(Case):
         for value in (*VALUES, ("follows",), ("follows", found, None), ["follows", found], ("parted", found), found,
                       ("follows", list(found)), ("follows", {}), ("follows", found, None, None)):
             self.assertIs(is_follow_paper(rule, other, value), False)
+
+    def test_wrong_maps(self):
+        rule, other = Rule(Pattern(x=None, y=None)), Rule(CROSS)
+        (key,) = follow_paper(rule, other)[1]
+        for names, wanted in (({"x": "x", "y": "y"}, True), ({"x": "y", "y": "x"}, True), ({"x": "x", "y": "x"}, False),
+                              ({"x": "x", "b": "y"}, False), ({"x": "x", "y": "q"}, False), ({"x": "q", "y": "y"}, False),
+                              ({"x": "x", "y": ["y"]}, False), ({"x": "x", "y": True}, False)):
+            self.assertIs(is_follow_paper(rule, other, ("follows", {key: (0, names)})), wanted)
+
+    def test_a_run_that_breaks_one_pattern_of_the_rule(self):
+        paper = ("parted", LAST, 0, {"x": "a", "y": "c"})
+        self.assertIs(is_follow_paper(Rule(RINGS), Rule(CROSS), paper), True)
+        self.assertIs(is_follow_paper(Rule(RINGS, STALE), Rule(CROSS), paper), False)
+        self.assertIs(is_follow_paper(Rule(STALE, RINGS), Rule(CROSS), paper), False)
 
     def test_nothing_to_follow(self):
         rule = Rule(RINGS)

@@ -164,6 +164,13 @@ class WayTests(Case):
         (order,) = own_orders(other)
         self.same(str(demand(order, ("row", "x", ("y", "z", "w")))), "other notes")
 
+    def test_rows_of_one_and_two_letters(self):
+        groups = ((SX, SY, SZ), (RY, ("send", "w")), (RX, RZ, ("read", "w")))
+        pairs = ((SX, SY), (SX, SZ), (RY, ("send", "w")), (RZ, RX), (("read", "w"), RX))
+        pattern = Pattern(conditions=pairs, groups=groups, w=None, x=None, y=None, z=None)
+        found = [[way[2] for way in ways(order) if way[0] == "row" and way[1] == "x"] for order in own_orders(pattern)]
+        self.same(found, [[("y", "w"), ("z",)]] * 4)
+
     def test_a_letter_of_any_kind_has_all_kinds(self):
         (order,) = own_orders(OVERTAKE)
         self.assertEqual(demand(order, ("row", "x", ("y",))), Marking.even("numbers"))
@@ -195,7 +202,7 @@ class WayTests(Case):
         for value in (*VALUES, ("late", "y"), ("late", "x", ()), ("row", "x", ()), ("row", "x", ("z",)), ["late", "x"],
                       ("row", "x", ["z", "y"]), ("row", ("z", "y")), ("late", "q"), ("late", ["x"]), ("row", ["x"], ("z", "y")),
                       ("row", "x", (["z"], "y")), ("row", "x", ("z", "y"), ()), ("row", "x", ("z", "z", "y")), ("late",),
-                      ("row", "x", "zy"), ("rows", "x", ("z", "y")), ("row", "x", ("z", "y", "q")), ("late", True)):
+                      ("row", "x"), ("junk", "x"), ("row", "x", "zy"), ("rows", "x", ("z", "y")), ("row", "x", ("z", "y", "q")), ("late", True)):
             self.assertIs(is_way(order, value), False)
             self.fails(InvalidOperation, demand, order, value)
 

@@ -327,6 +327,7 @@ class OrderTests(Case):
         self.assertIs(is_late_in(order, ("x", RY)), True)
         self.assertIs(is_crown_in(order, ("y", "x")), True)
         self.assertIs(is_crown_in(order, ("x",)), False)
+        self.assertIs(is_crown_in(order, ("x", "y", "x", "y")), False)
         self.assertIs(is_late_in(order, ("x", RX)), False)
 
     def test_it_never_changes(self):

@@ -4,7 +4,7 @@ from letterrules.base.letters import is_name, new_names
 from letterrules.base.renaming import renamed_event
 from letterrules.base.values import are_different, is_integer
 from letterrules.errors import InvalidOperation, TooMany
-from letterrules.own.orders import OwnOrder, are_together, check_arrangement, own_orders, ring_in
+from letterrules.own.orders import OwnOrder, are_together, own_orders, ring_in
 from letterrules.own.ownruns import own_run
 from letterrules.rules.breaks import has_placing, is_break
 from letterrules.rules.parts import many_arrangements
@@ -91,7 +91,6 @@ def _is_choice(pattern, value):
 def maps(pattern, other, arrangement, choice):
     """Yield all maps of a pattern into a case of another one, ascending by the tuples of their values."""
     check_pattern(pattern)
-    check_arrangement(other, arrangement)
     if ring_in(other, arrangement) is not None or not _is_choice(other, choice):
         raise InvalidOperation("this is no case of the pattern")
     order = OwnOrder(other, arrangement)
@@ -233,9 +232,7 @@ def core(rule, *, among="all"):
 
 def _is_part(rule, value):
     """Return whether a value is a rule with patterns of a rule in their order."""
-    if not isinstance(value, Rule) or not all([pattern in rule for pattern in value.patterns]):
-        return False
-    return [pattern for pattern in rule.patterns if pattern in value] == list(value.patterns)
+    return isinstance(value, Rule) and [one for one in rule.patterns if one in value] == list(value.patterns)
 
 
 def is_core(rule, value, *, among="all"):

@@ -66,8 +66,7 @@ def is_way(order, value):
         return False
     if len(value) == 3:
         return value[0] == "row" and _is_chain(order, value[1], value[2])
-    letter = value[1]
-    return value[0] == "late" and is_name(letter) and letter in order.pattern.letters and _is_late_letter(order, letter)
+    return value[0] == "late" and _is_late_letter(order, value[1])
 
 
 def _marked(kinds, word):
@@ -154,7 +153,7 @@ def _least_of(marking, kinds):
 def _calm_run(order, marking):
     """Return an own run in which all letters carry as little as they can, and its placing."""
     (unnamed,) = new_names(1, without=marking.kinds)
-    free = (unnamed, *[kind for kind in marking.kinds if kind != "other"])
+    free = (unnamed, *marking.kinds)
     kinds = {}
     for name, told in order.pattern.letters.items():
         kinds[name] = _least_of(marking, free if told is None else told)

@@ -97,7 +97,6 @@ class OwnOrder:
         return isinstance(value, OwnOrder) and all([pair in value for pair in self._pairs])
 
     def __getitem__(self, at):
-        self._check_events((at,))
         return self._order.future(at)
 
     def __contains__(self, x):
@@ -110,9 +109,7 @@ class OwnOrder:
         return iter(self._pairs)
 
     def __eq__(self, other):
-        if not isinstance(other, OwnOrder) or self._pattern != other.pattern:
-            return False
-        return self.is_within(other) and other.is_within(self)
+        return isinstance(other, OwnOrder) and self._pattern == other.pattern and self._pairs == tuple(other)
 
     def __str__(self):
         return f"order of {len(self._pattern)} letters, {len(self._pairs)} pairs"

@@ -18,7 +18,7 @@ def _are_kinds(pattern, value):
     if not isinstance(value, dict):
         return False
     letters = pattern.letters
-    if not all([is_name(name) and name in letters for name in value]):
+    if not all([name in letters for name in value]):
         return False
     return all([is_name(kind) and fits(letters[name], kind) for name, kind in value.items()])
 
