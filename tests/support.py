@@ -1,13 +1,21 @@
 """What several tests use."""
 
 import doctest
+import itertools
 import math
 import random
 import unittest
 
 from letterrules.base.orders import Order
+from letterrules.desk.desk import Desk
+from letterrules.desk.shell import Shell
+from letterrules.marks.known import Marking
+from letterrules.own.orders import OwnOrder
+from letterrules.plays.plays import Play, Transport
+from letterrules.plays.talkers import Talker, TalkPlay
 from letterrules.rules.patterns import Pattern, Rule
 from letterrules.runs.runs import Run
+from letterrules.watch.watchers import Watcher
 
 CROSS = Pattern(conditions=((("send", "x"), ("read", "y")), (("send", "y"), ("read", "x"))), x=None, y=None)
 OVERTAKE = Pattern(conditions=((("send", "x"), ("send", "y")), (("read", "y"), ("read", "x"))), groups=((("send", "x"), ("send", "y")), (("read", "x"), ("read", "y"))), x=None, y=None)
@@ -25,6 +33,9 @@ VALUES = (
     [], ["a"], ["send", "a"], [[]], {}, {"a": "b"}, {1: []}, {("a", "b"): {}}, ({},), ([],), ((), [{}]), DEEP,
     Order(("a", "b")), (Order(()),), [Order(("a",), )], {"x": Order(())},
     Run({}, {}), LAST, CROSS, Rule(CROSS), (LAST,), [CROSS], {"x": Rule(STALE)}, (CROSS, CROSS),
+    OwnOrder(Pattern(z=None), ()), Marking(), Marking(a="notes"), Transport(Marking()), Play(Transport(Marking()), "p", "q"),
+    Talker.asking(), TalkPlay(Talker.asking(), "p", "q"), Watcher(Rule(CROSS)), Desk(), Desk(a=Rule(CROSS)), Shell(),
+    (Marking(),), {"a": Talker.asking()},
 )
 
 
@@ -77,6 +88,18 @@ def closed_steps(steps):
         if not more:
             return steps
         steps |= more
+
+
+def all_whole_runs(run):
+    """Yield all runs in which the unread letters are read behind the rows of their readers."""
+    letters, waiting = run.letters, {}
+    for name in run.unread:
+        waiting.setdefault(letters[name][2], []).append(name)
+    for orders in itertools.product(*(itertools.permutations(names) for names in waiting.values())):
+        rows = run.rows
+        for reader, order in zip(waiting, orders):
+            rows[reader] = (*rows[reader], *(("read", name) for name in order))
+        yield Run(letters, rows)
 
 
 def naive_ahead(run):

@@ -31,6 +31,15 @@ FUNCTIONS = {
     "letterrules.marks.known": """known(run,marking,process,place) trail(run,marking,letter,process,place)
         is_trail(run,marking,letter,process,place,value) is_calm(run,marking) uncalm(run,marking)
         is_uncalm(run,marking,value)""",
+    "letterrules.plays.standard": """silent() numbered() noted() marked(marking) known_by(view) blocking(view,letter)
+        played(transport,run) first_held(transport,run)""",
+    "letterrules.drive.drivers": """drive(run,transport,*,most=1000) is_drive_paper(run,transport,value,*,most=1000)
+        seen_part(run,marking,event) beat(rule,transport,*,most=1000) is_beat_paper(rule,transport,value,*,most=1000)""",
+    "letterrules.watch.watchers": """completions(run,*,among='all') watch_paper(run,rule,*,among='all')
+        is_watch_paper(run,rule,value,*,among='all')""",
+    "letterrules.text.formats": """format_pattern(pattern) format_rule(rule) format_run(run) format_marking(marking)
+        format_placing(placing) format_steps(steps) parse_pattern(text) parse_rule(text) parse_run(text)
+        parse_marking(text) parse_placing(text) parse_steps(text)""",
     "letterrules.marks.least": """ways(order) is_way(order,value) demand(order,way) keeps(rule,marking)
         keeping_paper(rule,marking) is_keeping_paper(rule,marking,value) breaking_run(rule,marking)
         is_breaking_run(rule,marking,value) least_markings(rule) cheapest(rule,prices)""",
@@ -58,18 +67,32 @@ METHODS = {
         is_quiet(self) is_still(self) view(self,process) mark(self,letter) do(self,step) do_all(self,steps)
         wish(self,letter,kind,sender,reader) send(self,letter) come(self,letter) read(self,letter) may(self,value)
         next_steps(self) back(self,*,many=1) trial(self) attempt(self,action) twin(self)""",
+    ("letterrules.plays.talkers", "Talker"): "__init__(self,step) asking() __call__(self,view)",
+    ("letterrules.plays.talkers", "TalkPlay"): """__init__(self,talker,*processes) of(talker,processes) next_moves(self)
+        is_still(self) is_quiet(self) run(self) view(self,process) do(self,move) do_all(self,moves)
+        settle(self,*,most=1000) back(self,*,many=1) trial(self) attempt(self,action) twin(self)""",
+    ("letterrules.watch.watchers", "Watcher"): """__init__(self,rule,*,among='all') send(self,name,kind,sender,reader)
+        read(self,name) run(self) undo(self,many=1) trial(self) attempt(self,action) twin(self) with_rule(self,rule)""",
+    ("letterrules.desk.desk", "Desk"): """__init__(self,**rules) of(rules) __call__(self,run) put(self,name,rule)
+        drop(self,name) choose(self,marking) kept(self) least(self) undo(self,many=1) redo(self,many=1) trial(self)
+        during(self,action) twin(self) joined(self,other)""",
+    ("letterrules.desk.shell", "Shell"): """do(self,line) results(self,lines) tried(self,line) copied_desk(self)
+        of_log(log)""",
 }
 SIGNS = {
     "Order": "or invert eq str len iter contains", "Run": "add eq str len iter contains",
     "Pattern": "and eq str len iter contains", "Rule": "or eq str len iter contains getitem",
     "OwnOrder": "eq str len iter contains getitem", "Marking": "or and eq str len iter getitem", "Transport": "",
-    "Play": "eq str len iter",
+    "Play": "eq str len iter", "Talker": "call", "TalkPlay": "eq str len iter", "Watcher": "eq str len",
+    "Desk": "eq str len iter contains getitem", "Shell": "eq",
 }
 PROPERTIES = {
     "Order": "things pairs next_pairs firsts lasts", "Run": "letters rows processes order unread is_whole",
     "Pattern": "letters conditions groups kinds", "Rule": "patterns kinds",
     "OwnOrder": "pattern arrangement events next_pairs run_set", "Marking": "other kinds", "Transport": "marking",
-    "Play": "transport processes steps letters under_way pending",
+    "Play": "transport processes steps letters under_way pending", "Talker": "",
+    "TalkPlay": "talker processes moves pending", "Watcher": "rule among paper verdict since",
+    "Desk": "names marking answer steps", "Shell": "log",
 }
 CONSTANTS = {
     "letterrules.base.orders": {"MAX_THINGS": 240}, "letterrules.runs.runs": {"MAX_LETTERS": 60, "MAX_PROCESSES": 40},
@@ -78,6 +101,7 @@ CONSTANTS = {
     "letterrules.answers.answers": {"ANSWERS": ("nothing", "numbers", "notes", "letters", "never")},
     "letterrules.answers.follows": {"MAX_CASES": 2000},
     "letterrules.marks.known": {"WORDS": ("nothing", "numbers", "notes")},
+    "letterrules.watch.watchers": {"MAX_UNREAD": 6}, "letterrules.desk.desk": {"MAX_RULES": 12},
 }
 
 

@@ -181,7 +181,7 @@ class MarkingTests(Case):
     def test_equal_whether_told_or_not(self):
         self.assertEqual(Marking(other="notes", a="notes"), Marking.even("notes"))
         self.assertEqual(Marking(a="nothing"), Marking())
-        for value in VALUES:
+        for value in others(Marking):
             self.assertTrue(Marking() != value and not Marking() == value)
             self.assertIs(Marking().is_at_most(value), False)
             self.fails(InvalidOperation, lambda: Marking() | value)

@@ -176,9 +176,9 @@ def is_breaking_run(rule, marking, value):
     return is_break(rule, value) and is_calm(value[1], marking)
 
 
-def _check_named(rule):
-    """Refuse a rule that names too many kinds."""
-    if len(rule.kinds) > MAX_NAMED:
+def _check_named(kinds):
+    """Refuse too many kinds that are named."""
+    if len(kinds) > MAX_NAMED:
         raise TooMany(MAX_NAMED)
 
 
@@ -198,11 +198,12 @@ def _minimal(rows):
     return [row for row in different if not any([other != row and _is_below(other, row) for other in different])]
 
 
-def _least_rows(rule, kinds):
-    """Return the positions of the words that the least markings give some kinds, ascending."""
+def _least_rows(patterns, kinds):
+    """Return the positions of the words that the least markings for patterns give some kinds, ascending."""
     rows = [tuple([0 for _ in kinds])]
     seen = {}
-    for order in _orders_of(rule).values():
+    orders = [order for pattern in patterns for order in own_orders(pattern)]
+    for order in orders:
         demands = tuple(_minimal([_levels_of(demand(order, way), kinds) for way in ways(order)]))
         if demands not in seen:
             seen[demands] = True
@@ -216,12 +217,18 @@ def _marking_with(kinds, row):
     return Marking.of({kind: WORDS[level] for kind, level in zip(kinds, row)})
 
 
+def least_for(patterns):
+    """Return all least markings that keep each of some patterns from being placed."""
+    named = sorted({kind for pattern in patterns for kind in pattern.kinds})
+    _check_named(named)
+    kinds = ("other", *named)
+    return tuple([_marking_with(kinds, row) for row in _least_rows(patterns, kinds)])
+
+
 def least_markings(rule):
     """Return all least markings that keep a rule."""
     check_rule(rule)
-    _check_named(rule)
-    kinds = ("other", *rule.kinds)
-    return tuple([_marking_with(kinds, row) for row in _least_rows(rule, kinds)])
+    return least_for(rule.patterns)
 
 
 def _is_price(value):
@@ -244,8 +251,8 @@ def cheapest(rule, prices):
     kinds = ("other", *rule.kinds)
     if not _are_prices(kinds, prices):
         raise InvalidOperation("these are not prices for other and the kinds of the rule")
-    _check_named(rule)
-    rows = _least_rows(rule, kinds)
+    _check_named(rule.kinds)
+    rows = _least_rows(rule.patterns, kinds)
     sums = [sum([(0, *prices[kind])[level] for kind, level in zip(kinds, row)]) for row in rows]
     if not rows:
         return None

@@ -7,7 +7,7 @@ from letterrules.errors import (
 )
 from letterrules.marks.known import check_marking
 from letterrules.plays.states import State, first_views
-from letterrules.plays.trials import Trial
+from letterrules.base.trials import Trial
 
 MAX_DEPTH = 10
 

@@ -20,24 +20,48 @@ def first_views(processes):
     return {process: (("at", process),) for process in sorted(processes)}
 
 
-class State:
-    """The views of the processes, and the state before the last step. A state never changes.
+class Course:
+    """What has happened at the processes, and how far the letters have come. A course never changes.
 
-    `done` has all steps, `told` the wished letters, `stages` the word of the last step of each one, `carried` the marks
-    of those that are sent.
+    `views_by` has the views, `done` all that was done, `told` the wished letters, `stages` the word of the last step of
+    each one.
     """
 
-    def __init__(self, views_by, *, before=None, done=(), told=None, stages=None, carried=None):
+    def __init__(self, views_by, done, told, stages):
         self.views_by = views_by
-        self.before = before
         self.done = done
         self.told = {} if told is None else told
         self.stages = {} if stages is None else stages
-        self.carried = {} if carried is None else carried
 
     def letters_at(self, *words):
         """Return the letters whose last step has one of these words, ascending."""
         return tuple(sorted([letter for letter, word in self.stages.items() if word in words]))
+
+    def can_be_wished(self, letter, parts):
+        """Return whether a letter that is told by these parts can be wished."""
+        if letter in self.told or len(self.told) >= MAX_LETTERS or not is_letter(parts):
+            return False
+        return parts[1] in self.views_by and parts[2] in self.views_by
+
+    def run_so_far(self):
+        """Return the run of the letters that have been sent."""
+        letters = {letter: parts for letter, parts in self.told.items() if self.stages[letter] != "wish"}
+        rows = {}
+        for process, view in self.views_by.items():
+            rows[process] = tuple([item for item in view if item[0] in ("send", "read")])
+        return Run(letters, rows)
+
+
+class State(Course):
+    """The course of a play, with the state before the last step.
+
+    `carried` has the marks of the letters that are sent.
+    """
+
+    def __init__(self, views_by, *, before=None, done=(), told=None, stages=None, carried=None):
+        Course.__init__(self, views_by, done, told, stages)
+        self.before = before
+        self.carried = {} if carried is None else carried
 
     def place_of(self, step):
         """Return the process at which a possible step happens."""
@@ -50,7 +74,7 @@ class State:
         if not isinstance(value, tuple) or not 2 <= len(value) or not is_name(value[1]):
             return False
         if value[0] == "wish":
-            return self._can_be_wished(value[1], value[2:])
+            return self.can_be_wished(value[1], value[2:])
         if len(value) != 2 or value[0] not in ("send", "come", "read"):
             return False
         return self.stages.get(value[1]) == LAST_STEPS[value[0]]
@@ -66,20 +90,6 @@ class State:
             {**self.views_by, place: (*self.views_by[place], item)}, before=self, done=(*self.done, step), told=told,
             stages={**self.stages, letter: word}, carried=carried,
         )
-
-    def run_so_far(self):
-        """Return the run of the letters that have been sent."""
-        letters = {letter: parts for letter, parts in self.told.items() if letter in self.carried}
-        rows = {}
-        for process, view in self.views_by.items():
-            rows[process] = tuple([item for item in view if item[0] in ("send", "read")])
-        return Run(letters, rows)
-
-    def _can_be_wished(self, letter, parts):
-        """Return whether a letter that is told so can be wished."""
-        if letter in self.told or len(self.told) >= MAX_LETTERS or not is_letter(parts):
-            return False
-        return parts[1] in self.views_by and parts[2] in self.views_by
 
     def _item(self, step):
         """Return the item of a step in the view of its process."""

@@ -103,17 +103,24 @@ class Run:
 
     def until(self, *events):
         """Return the run of the past of these events."""
-        return self._with_events(self.past(*events))
+        return self.with_events(self.past(*events))
+
+    def with_events(self, events):
+        """Return the run with these events and the letters that are sent there; all processes stay."""
+        kept = {event: True for event in events}
+        letters = {name: letter for name, letter in self._letters.items() if ("send", name) in kept}
+        rows = {process: tuple([event for event in row if event in kept]) for process, row in self._rows.items()}
+        return Run(letters, rows)
 
     def only(self, *letters):
         """Return the run with only the events of these letters."""
         self._check_letters(letters)
-        return self._with_events([event for event in self._order if event[1] in letters])
+        return self.with_events([event for event in self._order if event[1] in letters])
 
     def without(self, *letters):
         """Return the run without the events of these letters."""
         self._check_letters(letters)
-        return self._with_events([event for event in self._order if event[1] not in letters])
+        return self.with_events([event for event in self._order if event[1] not in letters])
 
     def with_processes(self, **names):
         """Return the run with new names for processes."""
@@ -197,13 +204,6 @@ class Run:
         for letter in letters:
             if not is_name(letter) or letter not in self._letters:
                 raise UnknownName(letter)
-
-    def _with_events(self, events):
-        """Return the run with these events and the letters that are sent there; all processes stay."""
-        kept = {event: True for event in events}
-        letters = {name: letter for name, letter in self._letters.items() if ("send", name) in kept}
-        rows = {process: tuple([event for event in row if event in kept]) for process, row in self._rows.items()}
-        return Run(letters, rows)
 
 
 def _order_of(run):

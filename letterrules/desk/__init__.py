@@ -1,0 +1,1 @@
+"""A desk that keeps rules, and a shell for it."""

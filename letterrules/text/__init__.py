@@ -1,0 +1,1 @@
+"""Texts of patterns, rules, runs, markings, placings and steps."""

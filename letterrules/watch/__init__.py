@@ -1,0 +1,1 @@
+"""Watchers: when a rule is surely broken."""
