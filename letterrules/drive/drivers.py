@@ -33,17 +33,17 @@ def _check_drive(run, transport, most):
 
 
 def _still_play(transport, run, step):
-    """Return a still play of a transport that holds a step when a calm run is played."""
-    part, held = run, step
-    while held is not None:
-        wanted = held
-        letters = part.letters
-        part = part_in_front(part, transport.marking, wanted)
-        play, held = begun_play(transport, part)
-    if wanted[0] == "send":
-        play.do(("wish", wanted[1], *letters[wanted[1]]))
-    for letter in play.under_way:
-        play.come(letter)
+    """Return a still play of a transport that holds a step when a calm run, or a seen part of one, is played."""
+    part = part_in_front(run, transport.marking, step)
+    play, held = begun_play(transport, part)
+    if held is not None:
+        return _still_play(transport, part, held)
+    word, letter = step
+    if word == "send":
+        play.do(("wish", letter, *run.letters[letter]))
+    coming = play.under_way
+    for other in coming:
+        play.come(other)
     steps = list(play.next_steps())
     while steps:
         play.do(steps[0])

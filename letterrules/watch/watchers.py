@@ -232,7 +232,8 @@ class Watcher:
         """Return the watcher of this rule and another one that is told the same events."""
         check_rule(rule)
         made = Watcher(self._rule | rule, among=self._among)
-        for event in self._state.done:
+        events = list(self._state.done)
+        for event in events:
             made._take(event)
         return made
 
