@@ -188,6 +188,7 @@ class StepTests(Case):
     def test_put_drop_choose(self):
         desk = Desk()
         self.same([desk.put("b", Rule(STALE)), desk.put("a", Rule(OVERTAKE)), desk.put("b", Rule(OVERTAKE)), desk.steps], ["notes", "notes", "numbers", 3])
+        self.same((desk.names, list(desk)), (("a", "b"), ["a", "b"]))
         self.same([desk.drop("a"), desk.names, desk.choose(Marking.even("notes")), desk.marking == Marking.even("notes"), desk.steps],
                   ["numbers", ("b",), "numbers", True, 5])
         self.same([desk.put("b", Rule(OVERTAKE)), desk.choose(Marking.even("notes")), desk.steps], ["numbers", "numbers", 7])

@@ -329,6 +329,12 @@ class TalkerTests(Case):
                  ("come", "b"), ("act", "q"))
         self.assertIs(is_drive_paper(run, EAGER, ("made", moves)), True)
         self.assertIs(is_drive_paper(run, EAGER, ("made", moves[:-1])), False)
+        # It has this run, but is not quiet: a letter is wished, or a word is under way, or there is an act.
+        self.assertIs(is_drive_paper(run, EAGER, ("made", (*moves, ("wish", "c", "k", "p", "q")))), False)
+        one = (("wish", "a", "k", "p", "q"), ("act", "p"), ("come", "a"), ("act", "q"))
+        self.assertIs(is_drive_paper(ONE, EAGER, ("made", one)), True)
+        self.assertIs(is_drive_paper(ONE, RESTLESS, ("made", one)), False)
+        self.assertIs(is_drive_paper(ONE, RESTLESS, ("made", (*one, ("act", "p")))), False)
         self.assertIs(is_drive_paper(run, EAGER, ("made", list(moves))), False)
         self.assertIs(is_drive_paper(run, EAGER, ("still", moves)), False)
         self.assertIs(is_drive_paper(run, EAGER, ("restless", moves), most=6), False)
@@ -362,6 +368,11 @@ class TalkerTests(Case):
             for other in ("made", "still"):
                 self.assertIs(is_drive_paper(ONE, RESTLESS, (other, moves), most=most), False)
         self.assertEqual(drive(ONE, RESTLESS), drive(ONE, RESTLESS, most=1000))
+        self.assertIs(is_drive_paper(ONE, RESTLESS, drive(ONE, RESTLESS)), True)
+        for most in (999, 1001):
+            self.assertIs(is_drive_paper(ONE, RESTLESS, drive(ONE, RESTLESS, most=most)), False)
+        for word in ("broken", "moving", "", None, ("restless",)):
+            self.assertIs(is_drive_paper(ONE, RESTLESS, (word, drive(ONE, RESTLESS)[1])), False)
         # A second wish: so many moves stand behind this one.
         moves = (("wish", "a", "k", "p", "q"), ("act", "p"), ("wish", "b", "k", "p", "q"), ("act", "p"), ("act", "p"))
         self.assertIs(is_drive_paper(ONE, RESTLESS, ("restless", moves), most=2), True)
@@ -449,6 +460,11 @@ class BeatTests(Case):
             self.check(NEVER, RESTLESS, paper, most)
             self.assertIs(is_beat_paper(NEVER, RESTLESS, paper, most=most + 1), False)
         self.same((beat(NEVER, EAGER, most=3)[0], beat(NEVER, EAGER, most=2)[0]), ("broken", "restless"))
+        self.assertIs(is_beat_paper(NEVER, RESTLESS, beat(NEVER, RESTLESS)), True)
+        for most in (999, 1001):
+            self.assertIs(is_beat_paper(NEVER, RESTLESS, beat(NEVER, RESTLESS, most=most)), False)
+        for word in ("made", "moving", "", None):
+            self.assertIs(is_beat_paper(NEVER, RESTLESS, (word, beat(NEVER, RESTLESS)[1])), False)
 
     def test_papers_of_other_rules(self):
         paper = beat(Rule(STALE), numbered())

@@ -233,6 +233,10 @@ class MoveTests(Case):
         other = TalkPlay(Talker(lambda view: {"s": ("send", "e") if len(view) == 2 else None, "p": ("tell", "s", "word")}[view[0][1]]), "p", "s")
         other.do_all((("wish", "e", "k", "s", "p"), ("act", "s"), ("come", "e"), ("act", "p"), ("hear", 0)))
         self.same(other.view("s")[-1], ("told", "p", "word"))
+        # It was told a word by q, but r is not named by that.
+        fourth = TalkPlay(telling(q=("tell", "p", "hey"), p=("tell", "r", "hey")), "p", "q", "r")
+        fourth.do_all((WISH_B, ("act", "q"), ("hear", 0)))
+        self.fails(InvalidOperation, fourth.do, ("act", "p"))
         third = TalkPlay(telling(t=("tell", "p", "hey"), p=lambda view: ("tell", view[-1][1], "yes")), "p", "t")
         third.do_all((("wish", "f", "k", "t", "p"), ("act", "t"), ("hear", 0), ("act", "p"), ("hear", 1)))
         self.same(third.view("t")[-1], ("told", "p", "yes"))
@@ -252,6 +256,9 @@ class MoveTests(Case):
         self.same(list(many.next_moves()), [("hear", 0), ("hear", 1), ("hear", 3)])
         self.same((many.back(), list(many.next_moves())), (5, [("hear", 0), ("hear", 1), ("hear", 2), ("hear", 3)]))
         self.fails(InvalidOperation, many.do, ("hear", True))
+        for word in ("told", "tell", "act", "come", None, 0, ("hear",)):
+            self.fails(InvalidOperation, many.do, (word, 0))
+        self.fails(InvalidOperation, many.do, ("hear", 0, 0))
 
     def test_more_than_nine_letters_of_its_own(self):
         play = TalkPlay(telling(p=("tell", "q", "word")), "p", "q")
@@ -266,7 +273,8 @@ class MoveTests(Case):
                       ("c", "K", "p", "q"), ("c", "k", "p"), ("c", "k", "p", "q", "r"), (["c"], "k", "p", "q"), (5, "k", "p", "q"))),
                       ("act",), ("act", "p"), ("act", "r"), ("act", ["q"]), ("act", "q", "q"), ["act", "q"], ("come", "b"), ("come", "c"),
                       ("come", ["a"]), ("come", "a", "a"), ("hear", 0), ("send", "b"), ("read", "a"), ("tell", "q", "word"), (["act"], "q"),
-                      ("told", "q", "word"), (True, "q"), ({}, "q"), (None, None)):
+                      ("told", "q", "word"), (True, "q"), ({}, "q"), (None, None),
+                      *((word, "c", "k", "q", "p") for word in ("come", "act", "hear", "send", None, 5))):
             self.fails(InvalidOperation, play.do, value)
             self.fails(InvalidOperation, play.do_all, (*good, value))
             self.same(len(play), 3)

@@ -89,6 +89,18 @@ class CompletionTests(Case):
                     self.same(one, other)
             self.same(list(completions(run)), list(completions(run, among="all")))
 
+    def test_many_unread_letters(self):
+        """Letters of one sender and of several ones wait for one reader, sent behind one another or not."""
+        for seed in range(60):
+            chance = random.Random(seed)
+            run = some_run(chance, 5, ("pq", "pqr", "pqrs")[seed % 3], read=0.2, kinds=("k",))
+            for among in SETS:
+                self.same(list(completions(run, among=among)), [readings for readings, _ in naive_completions(run, among)])
+        # b is sent behind a by another process, so that only pairs lets it be read first.
+        run = run_of("p +a +c, r -c +b")
+        run = Run({**run.letters, "a": ("k", "p", "q"), "b": ("k", "r", "q")}, run.rows)
+        self.same([len(list(completions(run, among=among))) for among in SETS], [2, 2, 1, 1])
+
     def test_sets_hold_and_bar(self):
         run = run_of("p +a +b, q")
         run = Run({name: ("k", "p", "q") for name in "ab"}, run.rows)
@@ -185,8 +197,14 @@ class PaperTests(Case):
                 self.assertIs(judge(("broken", len(rule), placing)), False)
                 self.assertIs(judge(("broken", index, {**placing, "zz": "a"})), False)
                 self.assertIs(judge(("sure", index, placing)), False)
+                self.assertIs(judge(("broken", index, placing, 5)), False)
+                self.assertIs(judge(("open", index, placing)), False)
+            self.assertIs(judge(("broken", index)), False)
             self.assertIs(judge(("broken", index, {name: "zz" for name in pattern})), False)
         for readings, whole in found:
+            self.assertIs(judge(("open", readings, 5)), False)
+            self.assertIs(judge(("sure", readings)), False)
+            self.assertIs(judge(("other", readings)), False)
             self.assertIs(judge(("open", readings)), word == "open" and not breaks(whole, rule))
             self.assertIs(judge(("open", dict(reversed(readings.items())))), word == "open" and not breaks(whole, rule))
         if word != "sure":
@@ -194,6 +212,9 @@ class PaperTests(Case):
             return
         rows = tuple((tuple(readings.items()), *self.last_break(whole, rule)) for readings, whole in found)
         self.assertIs(judge(("sure", rows)), True)
+        self.assertIs(judge(("sure", rows, 5)), False)
+        for other in ("open", "broken", "other", "", None):
+            self.assertIs(judge((other, rows)), False)
         for wrong in (rows[:-1], rows[1:], (*rows, rows[-1]), list(rows), ()):
             self.assertIs(judge(("sure", wrong)), False)
         if len(rows) > 1:
@@ -270,7 +291,8 @@ class PaperTests(Case):
         rows = {"p": tuple(("send", name) for name in NAMES[:20]), "q": tuple(("read", name) for name in NAMES[19:0:-1])}
         many = Run(letters, rows)
         self.fails_with(TooMany, 1000000, watch_paper, many, five)
-        self.fails_with(TooMany, 1000000, is_watch_paper, many, five, ("open", {}))
+        for value in (("open", {}), 5, (), ("sure", ())):
+            self.fails_with(TooMany, 1000000, is_watch_paper, many, five, value)
         self.fails(InvalidOperation, watch_paper, many, five, among="pairs")
         self.fails(InvalidOperation, is_watch_paper, many, five, 5, among="single")
         unread = Run(letters, {"p": rows["p"]})

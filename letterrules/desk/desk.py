@@ -11,7 +11,6 @@ from letterrules.marks.known import Marking, check_marking
 from letterrules.marks.least import keeps, least_for
 from letterrules.rules.breaks import breaks
 from letterrules.rules.patterns import Rule, check_rule
-from letterrules.rules.search import check_choices
 from letterrules.runs.runs import check_run
 
 MAX_RULES = 12
@@ -76,10 +75,7 @@ class Desk:
 
     def __call__(self, run):
         check_run(run)
-        rules = self._state.rules
-        for rule in rules.values():
-            check_choices(run, rule.patterns)
-        return tuple([name for name, rule in rules.items() if breaks(run, rule)])
+        return tuple([name for name, rule in self._state.rules.items() if breaks(run, rule)])
 
     def put(self, name, rule):
         """Put in a rule under a name, and return the answer."""

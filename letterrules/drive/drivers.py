@@ -41,9 +41,7 @@ def _still_play(transport, run, step):
     word, letter = step
     if word == "send":
         play.do(("wish", letter, *run.letters[letter]))
-    coming = play.under_way
-    for other in coming:
-        play.come(other)
+    # What is under way comes first, since these steps are ascending.
     steps = list(play.next_steps())
     while steps:
         play.do(steps[0])
